@@ -1,0 +1,24 @@
+import importlib
+import inspect
+import unittest
+
+INTERFACE = {
+    "webs": {"is_web": ["thing"], "ties": ["web"], "gone": ["web", "room", "way"], "seen": ["web", "room", "way"],
+             "back_way": ["web", "room", "way"], "way_to": ["web", "one", "other"]},
+    "numbering": {"renumbered": ["web", "numbers"], "told_from": ["web", "room"],
+                  "same_web": ["one", "a", "other", "b"]},
+}
+
+
+class InterfaceTest(unittest.TestCase):
+    def test_names_and_arguments(self):
+        for module, functions in INTERFACE.items():
+            found = importlib.import_module("stonewalker." + module)
+            for name, arguments in functions.items():
+                function = getattr(found, name)
+                self.assertEqual(function.__module__, "stonewalker." + module)
+                self.assertEqual(list(inspect.signature(function).parameters), arguments, name)
+
+
+if __name__ == "__main__":
+    unittest.main()
