@@ -6,6 +6,10 @@ def is_number(thing):
     return isinstance(thing, int) and not isinstance(thing, bool)
 
 
+def is_number_of_room(web, thing):
+    return is_number(thing) and 0 <= thing < len(web)
+
+
 def is_end(thing):
     return isinstance(thing, tuple) and len(thing) == 2 and is_number(thing[0]) and is_number(thing[1])
 
@@ -16,7 +20,7 @@ def is_room(thing):
 
 def leads_back(rooms, room, door):
     end = rooms[room][door]
-    if not 0 <= end[0] < len(rooms):
+    if not is_number_of_room(rooms, end[0]):
         return False
     if not 0 <= end[1] < len(rooms[end[0]]):
         return False

@@ -194,6 +194,15 @@ def plain_same(one, a, other, b):
     return told
 
 
+def plain_parting(one, a, other, b, stone=False):
+    """The least way that parts, among all ways that are long enough to part whatever can be parted."""
+    doors = max(most_doors(one), most_doors(other))
+    for way in ways(doors, len(one) + len(other) - 1):
+        if plain_seen(one, a, way, stone) != plain_seen(other, b, way, stone):
+            return way
+    return None
+
+
 def deep(depth, shell):
     """A thing that lies so deep within lists or tuples."""
     thing = shell([])
@@ -245,3 +254,9 @@ GREAT_SHEETS = sheeted_whole(shuffled_web([6] * 8, 5), 3)
 NAMED = [LONE, SELF_DOOR, LOOP, TWICE, TWICE_ACROSS, MIXED, line(2), line(5), ring(1), ring(3), ring(6),
          wheel(5, (1, 2)), sheeted_whole(MIXED, 3)]
 GREAT = [GREAT_ALIKE, GREAT_APART, GREAT_SHEETS, line(24), ring(24)]
+# Pairs of webs that are small enough to try all ways.
+COUPLES = [(one, other) for place, one in enumerate(SMALL) for other in SMALL[place % 37::37]
+           if len(one) + len(other) <= 5 and most_doors(one) + most_doors(other) <= 7]
+# Webs and sheets over them: alike, and not the same.
+COUPLES += [(web, told) for web in SMALL if len(web) <= 2 and most_doors(web) <= 3
+            for told in [sheeted(web, 2, 1), sheeted(web, 2, 4)] if plain_is_web(told)]

@@ -7,6 +7,12 @@ INTERFACE = {
              "back_way": ["web", "room", "way"], "way_to": ["web", "one", "other"]},
     "numbering": {"renumbered": ["web", "numbers"], "told_from": ["web", "room"],
                   "same_web": ["one", "a", "other", "b"]},
+    "parting": {"parting": ["one", "a", "other", "b"], "shows_parting": ["one", "a", "other", "b", "way"],
+                "seen_with_stone": ["web", "room", "way"], "parting_with_stone": ["one", "a", "other", "b"]},
+    "pairing": {"pairing": ["one", "a", "other", "b"], "shows_pairing": ["one", "a", "other", "b", "pairs"]},
+    "kinds": {"kinds": ["web"], "kinds_by": ["web", "steps"]},
+    "folding": {"folded": ["web"], "folds_by": ["web"], "is_fold": ["big", "small", "numbers"], "sheets": ["web"],
+                "can_be_learnt": ["web", "room"]},
 }
 
 
