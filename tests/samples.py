@@ -203,6 +203,30 @@ def plain_parting(one, a, other, b, stone=False):
     return None
 
 
+def plain_kind(web, room):
+    """The rooms that no way parts from this one, found by pulling apart whatever can be."""
+    apart = {(a, b) for a in range(len(web)) for b in range(len(web)) if len(web[a]) != len(web[b])}
+    while True:
+        more = {(a, b) for a in range(len(web)) for b in range(len(web)) if (a, b) not in apart
+                and any(left[1] != right[1] or (left[0], right[0]) in apart for left, right in zip(web[a], web[b]))}
+        if not more:
+            return [other for other in range(len(web)) if (room, other) not in apart]
+        apart |= more
+
+
+class Bare:
+    """All that learners may use of a walker, and nothing besides."""
+
+    __slots__ = ("here", "go", "lay", "take", "in_hand")
+
+    def __init__(self, walker):
+        self.here = lambda: walker.here()
+        self.go = lambda door: walker.go(door)
+        self.lay = lambda: walker.lay()
+        self.take = lambda: walker.take()
+        self.in_hand = lambda: walker.in_hand()
+
+
 def deep(depth, shell):
     """A thing that lies so deep within lists or tuples."""
     thing = shell([])

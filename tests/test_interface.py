@@ -13,6 +13,12 @@ INTERFACE = {
     "kinds": {"kinds": ["web"], "kinds_by": ["web", "steps"]},
     "folding": {"folded": ["web"], "folds_by": ["web"], "is_fold": ["big", "small", "numbers"], "sheets": ["web"],
                 "can_be_learnt": ["web", "room"]},
+    "spreading": {"spread": ["web", "many", "turns"]},
+    "walker": {"Walker": ["web", "room", "stones"], "onlooker": ["walker"]},
+    "learning": {"view": ["walker", "deep"], "learnt": ["walker", "most"], "whereabouts": ["walker", "web"]},
+}
+METHODS = {
+    ("walker", "Walker"): {"here": [], "go": ["door"], "lay": [], "take": [], "in_hand": [], "steps": []},
 }
 
 
@@ -24,6 +30,13 @@ class InterfaceTest(unittest.TestCase):
                 function = getattr(found, name)
                 self.assertEqual(function.__module__, "stonewalker." + module)
                 self.assertEqual(list(inspect.signature(function).parameters), arguments, name)
+
+    def test_methods_and_arguments(self):
+        for (module, name), methods in METHODS.items():
+            made = getattr(importlib.import_module("stonewalker." + module), name)
+            for method, arguments in methods.items():
+                found = inspect.signature(getattr(made, method)).parameters
+                self.assertEqual(list(found)[1:], arguments, method)
 
 
 if __name__ == "__main__":

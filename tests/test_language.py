@@ -175,6 +175,19 @@ class LanguageTest(unittest.TestCase):
             for node in nodes(tree, ast.Attribute):
                 self.assertNotIn(node.attr, NOT_USED)
 
+    def test_no_name_is_a_method_and_a_value(self):
+        methods = set()
+        values = set()
+        for path in files():
+            for made in nodes(tree_of(path), ast.ClassDef):
+                own = [node.name for node in made.body if isinstance(node, ast.FunctionDef)]
+                self.assertEqual(len(own), len(set(own)), made.name)
+                methods |= set(own)
+                values |= {node.attr for node in nodes(made, ast.Attribute) if isinstance(node.ctx, ast.Store)}
+        self.assertEqual(methods & values, set())
+        known = set(dir(str) + dir(int) + dir(list) + dir(dict) + dir(set) + dir(bytes) + dir(tuple))
+        self.assertEqual((methods | values) & known - DUNDERS, set())
+
     def test_is_stands_beside_plain_values_alone(self):
         for path, tree in self.each():
             for node in nodes(tree, ast.Compare):
