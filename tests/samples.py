@@ -227,6 +227,16 @@ class Bare:
         self.in_hand = lambda: walker.in_hand()
 
 
+class Handless(Bare):
+    """A walker whose stones are not to be touched."""
+
+    __slots__ = ()
+
+    def __init__(self, walker):
+        super().__init__(walker)
+        self.lay = self.take = None
+
+
 def deep(depth, shell):
     """A thing that lies so deep within lists or tuples."""
     thing = shell([])

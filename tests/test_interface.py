@@ -16,6 +16,11 @@ INTERFACE = {
     "spreading": {"spread": ["web", "many", "turns"]},
     "walker": {"Walker": ["web", "room", "stones"], "onlooker": ["walker"]},
     "learning": {"view": ["walker", "deep"], "learnt": ["walker", "most"], "whereabouts": ["walker", "web"]},
+    "stonemaps": {"mapped": ["walker"], "counted": ["walker"], "mapped_round": ["walker", "most"]},
+    "evenwebs": {"even_webs": ["rooms", "doors"], "sees_all": ["web", "room", "way"]},
+    "seeing": {"missed": ["rooms", "doors", "way"], "shows_missed": ["rooms", "doors", "way", "web"],
+               "all_seeing": ["rooms", "doors"], "least_seeing": ["web"]},
+    "stories": {"story_of": ["web", "room", "way"], "fits": ["web", "room", "story"], "stands": ["web", "story"]},
 }
 METHODS = {
     ("walker", "Walker"): {"here": [], "go": ["door"], "lay": [], "take": [], "in_hand": [], "steps": []},

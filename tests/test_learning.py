@@ -6,7 +6,7 @@ from stonewalker.learning import learnt, view, whereabouts
 from stonewalker.numbering import renumbered
 from stonewalker.walker import Walker, onlooker
 from tests import samples
-from tests.samples import LONE, LOOP, MIXED, SELF_DOOR, Bare, line, ring
+from tests.samples import LONE, LOOP, MIXED, SELF_DOOR, Bare, Handless, line, ring
 
 LITTLE = [web for web in samples.SMALL if max(map(len, web)) <= 3]
 # Webs of four and five rooms with three doors, among them such with rooms alike.
@@ -37,16 +37,6 @@ def seen_by_view(told, way):
         come, told = told[1 + door]
         seen += ((come, told[0]),)
     return seen
-
-
-class Handless(Bare):
-    """A walker whose stones are not to be touched."""
-
-    __slots__ = ()
-
-    def __init__(self, walker):
-        super().__init__(walker)
-        self.lay = self.take = None
 
 
 def learners(web):
