@@ -1,5 +1,6 @@
 """Webs whose rooms have as many doors each, and ways that come to each room."""
 
+from stonewalker.tying import sketched, tied
 from stonewalker.webs import ends_on, is_web
 
 
@@ -14,15 +15,8 @@ def tied_on(begun, end, rooms, doors):
         for door in range(doors):
             other = (room, door)
             if other not in begun:
-                further = dict(begun)
-                further[end] = other
-                further[other] = end
-                told.append(further)
+                told.append(tied(begun, end, other))
     return told
-
-
-def web_of(leads, rooms, doors):
-    return tuple([tuple([leads[(room, door)] for door in range(doors)]) for room in range(rooms)])
 
 
 # Ends are tied in their order, each with others in theirs, so the told webs rise.
@@ -34,7 +28,7 @@ def even_webs(rooms, doors):
             for leads in begun:
                 further.extend(tied_on(leads, (room, door), rooms, doors))
             begun = further
-    webs = [web_of(leads, rooms, doors) for leads in begun]
+    webs = [sketched([doors] * rooms, leads) for leads in begun]
     # Rooms may be left that aren't come to, all doors ahead of them being tied.
     return [web for web in webs if is_web(web)]
 

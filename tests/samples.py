@@ -169,6 +169,16 @@ def ways(doors, most):
         yield from itertools.product(range(doors), repeat=many)
 
 
+def chance_way(web, room, many, seed):
+    """A way of so many doors that is possible, as far as the rooms have doors."""
+    chance = random.Random(seed)
+    way = []
+    while len(way) < many and web[room]:
+        way.append(chance.randrange(len(web[room])))
+        room = web[room][way[-1]][0]
+    return tuple(way)
+
+
 def most_doors(web):
     return max(len(room) for room in web)
 

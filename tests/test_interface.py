@@ -21,9 +21,15 @@ INTERFACE = {
     "seeing": {"missed": ["rooms", "doors", "way"], "shows_missed": ["rooms", "doors", "way", "web"],
                "all_seeing": ["rooms", "doors"], "least_seeing": ["web"]},
     "stories": {"story_of": ["web", "room", "way"], "fits": ["web", "room", "story"], "stands": ["web", "story"]},
+    "fitting": {"fitting": ["story", "most"], "fewest": ["story"]},
+    "crossing": {"crossed": ["web", "one", "other", "about"], "put_right": ["web", "room", "story"]},
+    "chart": {"Chart": ["mark", "doors"]},
 }
 METHODS = {
     ("walker", "Walker"): {"here": [], "go": ["door"], "lay": [], "take": [], "in_hand": [], "steps": []},
+    ("chart", "Chart"): {"went": ["door", "came", "mark", "doors"], "here": [], "rooms": [], "sketch": [],
+                         "open_doors": [], "next_way": [], "way_by": ["mark"], "forget": ["mark", "door"],
+                         "whole": []},
 }
 
 

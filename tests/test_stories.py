@@ -1,10 +1,9 @@
-import random
 import unittest
 
 from stonewalker.numbering import renumbered
 from stonewalker.stories import fits, stands, story_of
 from tests import samples
-from tests.samples import LONE, LOOP, MIXED, SELF_DOOR, TWICE, TWICE_ACROSS, line, ring
+from tests.samples import LONE, LOOP, MIXED, SELF_DOOR, TWICE, TWICE_ACROSS, chance_way, line, ring
 
 
 def plain_story(web, room, way):
@@ -37,16 +36,6 @@ def others(story):
             for part in range(3):
                 other = step[:part] + (step[part] + change,) + step[part + 1:]
                 yield (doors, steps[:place] + (other,) + steps[place + 1:])
-
-
-def chance_way(web, room, many, seed):
-    """A way of so many doors that is possible, as far as the rooms have doors."""
-    chance = random.Random(seed)
-    way = []
-    while len(way) < many and web[room]:
-        way.append(chance.randrange(len(web[room])))
-        room = web[room][way[-1]][0]
-    return tuple(way)
 
 
 class StoryOfTest(unittest.TestCase):
