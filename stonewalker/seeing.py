@@ -2,6 +2,7 @@
 
 from stonewalker.evenwebs import even_webs, sees_all
 from stonewalker.numbering import told_from
+from stonewalker.searching import least_way
 from stonewalker.webs import ends_on, gone, is_web, way_to
 
 
@@ -66,20 +67,8 @@ def walks_by(web, walks, door):
     return tuple(further)
 
 
-# What is ahead of the walks depends on where they are and what they have left alone, so of several ways
-# that come to the same the first is enough.
 def least_seeing(web):
-    level = [((), walks_begun(web))]
-    known = {level[0][1]: True}
-    while level:
-        further = []
-        for way, walks in level:
-            if not any([left for room, left in walks]):
-                return way
-            for door in range(len(web[0])):
-                gone_on = walks_by(web, walks, door)
-                if gone_on not in known:
-                    known[gone_on] = True
-                    further.append((way + (door,), gone_on))
-        level = further
-    return None
+    def beyond(walks):
+        return [walks_by(web, walks, door) for door in range(len(web[0]))]
+
+    return least_way(walks_begun(web), beyond, lambda walks: not any([left for room, left in walks]))

@@ -24,6 +24,10 @@ INTERFACE = {
     "fitting": {"fitting": ["story", "most"], "fewest": ["story"]},
     "crossing": {"crossed": ["web", "one", "other", "about"], "put_right": ["web", "room", "story"]},
     "chart": {"Chart": ["mark", "doors"]},
+    "meeting": {"is_rule": ["web", "rule"], "meet_at": ["web", "a", "b", "rule"], "meeting_rule": ["web"],
+                "meeting": ["web", "a", "b"], "shows_never": ["web", "a", "b", "pairs"]},
+    "home": {"way_home": ["web", "story"], "telling_way": ["web", "rooms"]},
+    "sheet": {"run": ["text"]},
 }
 METHODS = {
     ("walker", "Walker"): {"here": [], "go": ["door"], "lay": [], "take": [], "in_hand": [], "steps": []},
